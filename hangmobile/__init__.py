@@ -1,0 +1,1 @@
+"""Hangmobile: rods that hang level."""
