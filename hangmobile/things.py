@@ -55,3 +55,17 @@ class Rod(Hung):
         if place[0] == "r":
             return self.right.at(place[1:])
         raise NoPlace("a place has no other signs than l and r")
+
+
+def weight_at(mobile, place):
+    thing = mobile.at(place)
+    if not isinstance(thing, Weight):
+        raise NoPlace("no weight hangs at the place")
+    return thing
+
+
+def rod_at(mobile, place):
+    thing = mobile.at(place)
+    if not isinstance(thing, Rod):
+        raise NoPlace("no rod hangs at the place")
+    return thing
